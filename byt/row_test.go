@@ -37,7 +37,7 @@ func TestRow(t *testing.T) {
 // P1.3: a row of MaxLen bytes is the longest one.
 func TestLongestRow(t *testing.T) {
 	if testing.Short() {
-		t.Skip("takes a gigabyte")
+		t.Skip("takes two gigabytes")
 	}
 	x := make([]byte, api.MaxLen+1)
 	if b, e := byt.Row(x); e != api.ErrArg || len(b) != 0 {
